@@ -1,0 +1,1 @@
+"""Goneday: papers that must be kept, and papers that must be gone."""
