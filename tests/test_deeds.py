@@ -50,8 +50,8 @@ class TestRules(Asking):
             self.says(is_rule, (word, "mail", ("coming",), 5, "days"), False)
 
     def test_wrong_sinces(self):
-        for since in ("coming", ("coming", "read"), ("first",), ("last",), ("coming", None), ("read",), ("middle", "read"),
-                      ("first", "Read"), ("first", ""), ("last", "ninesigns"), ("first", "a", "b"), (), ["coming"],
+        for since in ("coming", ("coming", "read"), ("first",), ("last",), ("coming", None), ("read",),
+                      ("middle", "read"), ("first", "Read"), ("first", ""), ("last", "ninesigns"), ("first", "a", "b"), (), ["coming"],
                       ["first", "read"], ("first", ["read"]), ("first", {}), None, 0):
             self.says(is_rule, ("keep", "mail", since, 5, "days"), False)
 
