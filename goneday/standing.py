@@ -1,7 +1,7 @@
 """Which rules and holds stand on a day, what holds cover, and what rules reckon."""
 
 from goneday.days import later
-from goneday.webs import coming_of, kind_of, line_of
+from goneday.webs import Paper, line_of
 
 
 def latest(deeds, words, day):
@@ -25,43 +25,49 @@ def holds_on(deeds, day):
     return tuple([(deed[2], deed[3], deed[4]) for deed in latest(deeds, ("hold", "lift"), day) if deed[0] == "hold"])
 
 
-def is_told(deeds, target, paper):
-    """Tell whether a hold's target tells this paper, by its name or its kind."""
-    if target[0] == "paper":
-        return target[1] == paper
-    return target[1] == kind_of(deeds, paper)
+def is_told(target, coming):
+    """Tell whether a hold's target tells the paper of this coming, by its name or its kind."""
+    return target[1] == (coming[2] if target[0] == "paper" else coming[3])
 
 
-def covering(deeds, day, paper):
-    """Tell the names of the holds that cover a paper on a day, rising."""
-    line = line_of(deeds, paper)
+def holding(holds, line):
+    """Tell the names of those holds that cover the paper of this line, as line_of tells it."""
     names = []
-    for hold, target, deep in holds_on(deeds, day):
-        reached = line if deep else [paper]
-        if any([is_told(deeds, target, other) for other in reached]):
+    for hold, target, deep in holds:
+        reached = line if deep else line[:1]
+        if any([is_told(target, coming) for coming in reached]):
             names.append(hold)
     return tuple(names)
 
 
-def happened(deeds, paper, happening):
+def covering(deeds, day, paper):
+    """Tell the names of the holds that cover a paper on a day, rising."""
+    return holding(holds_on(deeds, day), line_of(deeds, paper))
+
+
+def happened(paper, happening):
     """Tell the days on which a happening happened to a paper, rising."""
-    return sorted([deed[1] for deed in deeds if deed[0] == "happens" and deed[2:] == (paper, happening)])
+    return [day for day, other in paper.happenings if other == happening]
 
 
-def base_of(deeds, since, paper, day):
+def base_of(paper, since, day):
     """Tell the day from which a rule reckons for a paper, None where there is none."""
-    coming = coming_of(deeds, paper)[1]
     if since[0] == "coming":
-        return coming
-    days = [other for other in happened(deeds, paper, since[1]) if other <= day]
+        return paper.coming
+    days = [other for other in happened(paper, since[1]) if other <= day]
     if not days:
         return None
     return days[0] if since[0] == "first" else days[-1]
 
 
-def reckoning(deeds, parts, paper, day):
-    """Tell the day that a keep or a gone rule reckons for a paper, None where there is no base."""
-    base = base_of(deeds, parts[2], paper, day)
+def reckoned(paper, parts, day):
+    """Tell what reckoning tells, of a paper made ready."""
+    base = base_of(paper, parts[2], day)
     if base is None:
         return None
     return later(base, parts[3], parts[4])
+
+
+def reckoning(deeds, parts, paper, day):
+    """Tell the day that a keep or a gone rule reckons for a paper, None where there is no base."""
+    return reckoned(Paper(deeds, paper), parts, day)

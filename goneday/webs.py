@@ -3,6 +3,18 @@
 from goneday.errors import NoPaper
 
 
+class Paper:
+    """A paper with what the deeds tell of it alone, found once for many askings."""
+
+    def __init__(self, deeds, name):
+        coming = coming_of(deeds, name)
+        self.name = coming[2]
+        self.coming = coming[1]
+        self.kind = coming[3]
+        self.makers = makers(deeds, name)
+        self.happenings = sorted([(deed[1], deed[3]) for deed in deeds if deed[0] == "happens" and deed[2] == name])
+
+
 def place_of(deed):
     """Tell what a paper's coming stands in order by."""
     return (deed[1], deed[2])
@@ -32,11 +44,15 @@ def kind_of(deeds, paper):
     return coming_of(deeds, paper)[3]
 
 
+def maker_comings(deeds, coming):
+    """Tell the comings of the makers that count of the paper of this coming, in order."""
+    named = [deed for deed in deeds if deed[0] == "paper" and deed[2] in coming[4]]
+    return comings([deed for deed in named if place_of(deed) < place_of(coming)])
+
+
 def makers(deeds, paper):
     """Tell the makers of a paper that count, in order."""
-    own = coming_of(deeds, paper)
-    named = [deed for deed in comings(deeds) if deed[2] in own[4]]
-    return tuple([deed[2] for deed in named if place_of(deed) < place_of(own)])
+    return tuple([deed[2] for deed in maker_comings(deeds, coming_of(deeds, paper))])
 
 
 def made_of(deeds, paper):
@@ -53,12 +69,11 @@ def made_of(deeds, paper):
 
 
 def line_of(deeds, paper):
-    """Tell a paper and all that it is made of, however far, each once."""
-    line = [paper]
-    waiting = list(makers(deeds, paper))
-    while waiting:
-        name = waiting.pop()
-        if name not in line:
-            line.append(name)
-            waiting.extend(makers(deeds, name))
+    """Tell the comings of a paper, first, and of all that it is made of, however far, each once."""
+    line = [coming_of(deeds, paper)]
+    # The list grows while it is gone through, so places are counted and not walked.
+    place = 0
+    while place < len(line):
+        line.extend([deed for deed in maker_comings(deeds, line[place]) if deed not in line])
+        place = place + 1
     return line

@@ -54,6 +54,16 @@ NO_PARTS = (
 )
 
 
+def gone(name, many, kind="k", day=0, since=("coming",), unit="days"):
+    """A deed of a gone rule."""
+    return ("rule", day, name, ("gone", kind, since, many, unit))
+
+
+def keep(name, many, kind="k", day=0, since=("coming",), unit="days"):
+    """A deed of a keep rule."""
+    return ("rule", day, name, ("keep", kind, since, many, unit))
+
+
 def shuffled(deeds, seed):
     """The same deeds in another order, always the same one for one seed."""
     others = list(deeds)
@@ -89,19 +99,19 @@ def reshaped(thing):
                 yield thing[:place] + (other,) + thing[place + 1:]
 
 
-def random_rule(dice):
+def random_rule(dice, spans):
     """The parts of some rule, of few kinds and happenings, so that many meet."""
     word = dice.choice(("keep", "gone", "keep", "gone", "while", "follow", "leave"))
     kind = dice.choice(("k", "m"))
     if word not in ("keep", "gone"):
         return (word, kind)
     since = dice.choice((("coming",), ("first", "read"), ("last", "read"), ("last", "sent")))
-    return (word, kind, since, dice.choice((0, 1, 3, 9)), dice.choice(("days", "days", "days", "months", "years")))
+    return (word, kind, since) + dice.choice(spans)
 
 
-def random_deed(dice):
-    """Some deed of the first days, of few names, so that many meet."""
-    day = dice.randint(0, 12)
+def random_deed(dice, last, spans):
+    """Some deed of a day up to the last, of few names, so that many meet."""
+    day = dice.randint(0, last)
     word = dice.choice(("paper",) * 3 + ("happens", "rule") * 2 + ("end", "hold", "lift", "leave"))
     paper = dice.choice("abcdef")
     if word == "paper":
@@ -110,7 +120,7 @@ def random_deed(dice):
     if word == "happens":
         return (word, day, paper, dice.choice(("read", "sent")))
     if word == "rule":
-        return (word, day, dice.choice("qrs"), random_rule(dice))
+        return (word, day, dice.choice("qrs"), random_rule(dice, spans))
     if word == "hold":
         target = dice.choice((("paper", paper), ("kind", dice.choice(("k", "m")))))
         return (word, day, dice.choice("hi"), target, dice.choice((True, False)))
@@ -125,13 +135,58 @@ def sort_of(deed):
     return ({"end": "rule", "lift": "hold"}.get(deed[0], deed[0]),) + once.get(deed[0], deed[1:3])
 
 
-def random_deeds(seed):
+SHORT = tuple((many, unit) for many in (0, 1, 3, 9) for unit in ("days", "days", "days", "months", "years"))
+LONG = tuple((many, unit) for many in (0, 1, 40, 270, 999) for unit in ("days", "months", "years"))
+
+
+def random_deeds(seed, last=12, spans=SHORT):
     """At most 40 deeds that go together, always the same ones for one seed."""
     dice = random.Random(seed)
     deeds = {}
     for turn in range(dice.choice((3, 10, 25, 40, 40))):
-        deed = random_deed(dice)
+        deed = random_deed(dice, last, spans)
         deeds.setdefault(sort_of(deed), deed)
+    return tuple(deeds.values())
+
+
+def busy_rule(dice, spans):
+    """The parts of some rule, mostly of one kind and from the coming, so that papers go and rules clash."""
+    kind = dice.choice("kkm")
+    word = dice.choice(("gone", "gone", "gone", "keep", "while", "follow", "follow", "leave"))
+    if word not in ("keep", "gone"):
+        return (word, kind)
+    since = dice.choice((("coming",), ("coming",), ("first", "read"), ("last", "read")))
+    return (word, kind, since) + dice.choice(spans)
+
+
+def busy_deed(dice, last, spans):
+    """Some deed, such that many papers go, follow, lack leaves and are held for a while."""
+    word = dice.choice(("paper",) * 9 + ("rule",) * 8 + ("happens",) * 5 + ("leave",) * 4 + ("hold", "lift", "lift", "end"))
+    day = dice.randint(0, last // 2 if word in ("paper", "rule", "hold") else last)
+    paper = dice.choice("abcdefghij")
+    if word == "paper":
+        makers = tuple(sorted(dice.sample("abcdefghijx", dice.choice((0, 1, 1, 2, 4)))))
+        return (word, day, paper, dice.choice("kkm"), makers)
+    if word == "happens":
+        return (word, day, paper, "read")
+    if word == "rule":
+        return (word, day, dice.choice("opqrstuvw"), busy_rule(dice, spans))
+    if word == "hold":
+        target = dice.choice((("paper", paper), ("kind", dice.choice("km"))))
+        return (word, day, dice.choice("hi"), target, dice.choice((True, False)))
+    if word == "leave":
+        return (word, day, dice.choice("xyzabc"), dice.choice("kkm"))
+    return (word, day, dice.choice("opqrstuvw" if word == "end" else "hi"))
+
+
+def busy_deeds(seed, last, spans=SHORT):
+    """Up to 40 deeds that go together, always the same ones for one seed."""
+    dice = random.Random(seed)
+    deeds = {}
+    for turn in range(400):
+        deed = busy_deed(dice, last, spans)
+        if len(deeds) < 20 + seed % 21:
+            deeds.setdefault(sort_of(deed), deed)
     return tuple(deeds.values())
 
 

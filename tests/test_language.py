@@ -113,6 +113,30 @@ class TestLanguage(unittest.TestCase):
                 if isinstance(node, ast.Call) and isinstance(node.func, ast.Attribute):
                     self.assertIn(node.func.attr, METHODS | own | {"__init__"}, (name, node.lineno))
 
+    def test_values_and_methods_of_objects(self):
+        methods, values = set(), set()
+        for name, source in sources():
+            for node in ast.walk(ast.parse(source)):
+                if isinstance(node, ast.ClassDef):
+                    methods |= {part.name for part in node.body if isinstance(part, ast.FunctionDef)}
+                if isinstance(node, ast.Attribute) and isinstance(node.ctx, ast.Store):
+                    self.assertIsInstance(node.value, ast.Name, (name, node.lineno))
+                    values.add(node.attr)
+        self.assertEqual(methods & values, set())
+        taken = {part for kind in (int, str, list, dict, set, tuple, bytes) for part in dir(kind)} - {"__init__"}
+        self.assertEqual((methods - METHODS) & (taken - {"add", "discard"}), set())
+        self.assertEqual(values & taken, set())
+
+    def test_no_local_is_called_like_an_import_or_a_class(self):
+        for name, source in sources():
+            tree = ast.parse(source)
+            taken = {alias.name for node in tree.body if isinstance(node, ast.ImportFrom) for alias in node.names}
+            taken |= {node.name for node in tree.body if isinstance(node, ast.ClassDef)}
+            for node in ast.walk(tree):
+                if isinstance(node, ast.FunctionDef):
+                    own = [bound for part in node.body + [node.args] for bound in bound_names(part)]
+                    self.assertEqual(taken & set(own), set(), (name, node.name))
+
     def test_imports(self):
         homes = {name[:-3]: ast.parse(source) for name, source in sources()}
         drawn = {}
