@@ -297,6 +297,8 @@ class TestRight(unittest.TestCase):
             self.right(deeds, [("a", day, leave, True)], truth)
         self.right(deeds[:1], [("a", 9, None, True)], True)
         self.right(deeds[:1], [("a", 9, "gone", True)], True)
+        # A happening to a paper of the leave's name is no leave.
+        self.right((A, NEEDS, ("happens", 9, "l", "k")), [("a", 9, "l", True)], False)
 
     def test_the_act_by_which_it_turned(self):
         done = [("b", 20, None, True), ("a", 20, None, True)]

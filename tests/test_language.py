@@ -53,6 +53,11 @@ def known_names(tree):
     return BUILT_IN | set(bound_names(tree)) | set(imported)
 
 
+def called_as(node):
+    """The name by which a call calls."""
+    return node.func.attr if isinstance(node.func, ast.Attribute) else getattr(node.func, "id", None)
+
+
 class TestLanguage(unittest.TestCase):
     def test_files(self):
         found = [path.name for path in PACKAGE.iterdir() if path.name != "__pycache__"]
@@ -136,6 +141,32 @@ class TestLanguage(unittest.TestCase):
                 if isinstance(node, ast.FunctionDef):
                     own = [bound for part in node.body + [node.args] for bound in bound_names(part)]
                     self.assertEqual(taken & set(own), set(), (name, node.name))
+
+    def test_walked_at_once(self):
+        walked = {"zip", "enumerate", "reversed", "range", "items", "keys", "values"}
+        walkers = {"list", "tuple", "dict", "sorted", "sum", "any", "all", "enumerate", "zip", "min", "max", "join"}
+        for name, source in sources():
+            tree = ast.parse(source)
+            fine = [node.iter for node in ast.walk(tree) if isinstance(node, (ast.For, ast.comprehension))]
+            for node in ast.walk(tree):
+                if isinstance(node, ast.Call) and called_as(node) in walkers:
+                    fine += node.args[:1] if called_as(node) != "zip" else node.args
+            for node in ast.walk(tree):
+                if isinstance(node, ast.Call) and called_as(node) in walked:
+                    self.assertIn(node, fine, (name, node.lineno))
+
+    def test_sets_are_not_kept(self):
+        for name, source in sources():
+            tree = ast.parse(source)
+            fine = []
+            for node in ast.walk(tree):
+                if isinstance(node, ast.Call) and called_as(node) in ("sorted", "len") and not node.keywords:
+                    fine += node.args
+                if isinstance(node, ast.Compare):
+                    fine += [node.left] + node.comparators
+            for node in ast.walk(tree):
+                if isinstance(node, ast.Set) or (isinstance(node, ast.Call) and called_as(node) in ("set", "frozenset")):
+                    self.assertIn(node, fine, (name, node.lineno))
 
     def test_imports(self):
         homes = {name[:-3]: ast.parse(source) for name, source in sources()}
