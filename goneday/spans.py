@@ -29,10 +29,10 @@ def ended(stretches, day):
     return [(first, day - 1 if last is None else last, why) for first, last, why in stretches]
 
 
-def diary(deeds, paper):
-    """Tell the stretches of days on which a paper stays, and why on each."""
+def diary_of(looks):
+    """Tell the diary of a paper, of the plan's looks at it in turn."""
     stretches = []
-    for look in looks_at(deeds, paper):
+    for look in looks:
         if look.lets_go():
             return tuple(ended(stretches, look.day))
         why = why_stays(look)
@@ -41,3 +41,8 @@ def diary(deeds, paper):
             stretches = ended(stretches, look.day)
             stretches.append((look.day, None, why))
     return tuple(stretches)
+
+
+def diary(deeds, paper):
+    """Tell the stretches of days on which a paper stays, and why on each."""
+    return diary_of(looks_at(deeds, paper))

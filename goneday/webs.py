@@ -77,3 +77,14 @@ def line_of(deeds, paper):
         line.extend([deed for deed in maker_comings(deeds, line[place]) if deed not in line])
         place = place + 1
     return line
+
+
+def ways_from(deeds, paper):
+    """Tell by names a way to the paper itself and to each that it is made of: papers, each a maker of the one ahead."""
+    line = line_of(deeds, paper)
+    ways = {paper: (paper,)}
+    # The line tells each paper behind one that is made of it, so the way to that one is there already.
+    for coming in line:
+        for maker in makers(deeds, coming[2]):
+            ways.setdefault(maker, ways[coming[2]] + (maker,))
+    return ways
